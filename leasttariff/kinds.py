@@ -1,6 +1,6 @@
-"""What counts as a book, a place of it and an amount, and the refusal of all else."""
+"""What counts as a book, a place of it, an amount and money, and the refusal of all else."""
 
-from leasttariff.errors import BadAmount, BadBook, BadPlace
+from leasttariff.errors import BadAmount, BadBook, BadMoney, BadPlace
 
 # The refusals show nothing of what was refused: writing out a value can fail by itself,
 # as it does with a number of very many figures.
@@ -27,6 +27,10 @@ def is_amount(value):
     return is_whole_pair(value) and value[1] > 0 and common_divisor(value[0], value[1]) == 1
 
 
+def is_place(book, value):
+    return is_whole(value) and value < len(book)
+
+
 def check_book(book):
     if not isinstance(book, list) or len(book) == 0:
         raise BadBook("a book is a list of one or more tariffs")
@@ -36,10 +40,15 @@ def check_book(book):
 
 
 def check_place(book, place):
-    if not is_whole(place) or place >= len(book):
+    if not is_place(book, place):
         raise BadPlace("a place is a whole number from 0 to below the book's length")
 
 
 def check_amount(amount):
     if not is_amount(amount):
         raise BadAmount("an amount is a pair of whole numbers in lowest terms, the second above 0")
+
+
+def check_money(money):
+    if not is_whole(money):
+        raise BadMoney("money is a whole number, 0 or more")

@@ -8,6 +8,7 @@ from math import gcd
 
 from leasttariff.books import cheapest, cost
 from leasttariff.errors import BadAmount, BadBook, BadPlace
+from told import KeptList, Told
 from wrong_values import HUGE, NO_AMOUNTS, NO_BOOKS, no_places
 
 BOOK = [(10, 3), (0, 7), (25, 0)]
@@ -27,21 +28,6 @@ def small_books():
 
 def as_fraction(tariff, amount):
     return tariff[0] + tariff[1] * Fraction(amount[0], amount[1])
-
-
-class Told(unittest.TestCase):
-    def assert_fraction(self, told, expected):
-        self.assertIs(type(told), tuple)
-        self.assertEqual([type(part) for part in told], [int, int])
-        self.assertEqual(told, expected)
-
-    def assert_refused(self, error, function, *arguments):
-        try:
-            told = function(*arguments)
-        except Exception as e:
-            self.assertIs(type(e), error)
-        else:
-            self.fail(f"no refusal, but an answer of {type(told)}")
 
 
 class Cost(Told):
@@ -210,10 +196,6 @@ class Cheapest(Told):
             self.assert_refused(BadBook, cheapest, book, None)
         for amount in NO_AMOUNTS:
             self.assert_refused(BadBook, cheapest, [], amount)
-
-
-class KeptList(list):
-    """A list that can be watched for being kept."""
 
 
 class NothingChangedOrKept(Told):

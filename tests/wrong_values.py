@@ -65,3 +65,10 @@ NO_AMOUNTS = NO_PAIRS + [(bad, 1) for bad in NO_COUNTS] + [(1, bad) for bad in N
 
 def no_places(book):
     return NO_COUNTS + [len(book), len(book) + 1, -len(book), HUGE, (0, 1)]
+
+
+# No text at all, or a text that no book is written as.
+NO_TEXTS = [
+    None, True, False, 0, 1, HUGE, 1.5, b"", b"1+2", (), ("1+2",), [], ["1+2"], [(1, 2)], (1, 2), {}, {"1+2": 1}, set(),
+    range(3), iter("1+2"), object(), str, Hostile(), bytearray(b"1+2"),
+]
